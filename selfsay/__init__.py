@@ -1,0 +1,1 @@
+"""Sayings that speak of what can be shown."""

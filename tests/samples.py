@@ -1,0 +1,87 @@
+"""Sayings to test with, and slow plain ways to find what the program tells of them."""
+
+NO = ("no",)
+P = ("letter", "p")
+Q = ("letter", "q")
+R = ("letter", "r")
+JOINS = ("and", "or", "if")
+
+
+def sayings_by_size(greatest):
+    """A dict from each size up to the greatest to all sayings of it."""
+    by_size = {1: [NO, P, Q, R]}
+    for size in range(2, greatest + 1):
+        found = [(word, a) for word in ("not", "shown") for a in by_size[size - 1]]
+        for ahead in range(1, size - 1):
+            for a in by_size[ahead]:
+                found += [(word, a, b) for b in by_size[size - 1 - ahead] for word in JOINS]
+        by_size[size] = found
+    return by_size
+
+
+def small_sayings(greatest=4):
+    return [saying for found in sayings_by_size(greatest).values() for saying in found]
+
+
+def inner(saying):
+    return [] if saying[0] in ("no", "letter") else list(saying[1:])
+
+
+def all_parts(saying):
+    """The parts, each as often as it stands."""
+    return [saying] + [part for a in inner(saying) for part in all_parts(a)]
+
+
+def plain_depth(saying):
+    depths = [plain_depth(a) for a in inner(saying)]
+    return max(depths, default=0) + (saying[0] == "shown")
+
+
+def plain_put(saying, sayings):
+    if saying[0] == "letter":
+        return sayings.get(saying[1], saying)
+    return (saying[0],) + tuple(plain_put(a, sayings) for a in inner(saying))
+
+
+def plain_text(saying):
+    word, rest = saying[0], [plain_text(a) for a in inner(saying)]
+    if word == "no":
+        return "0"
+    if word == "letter":
+        return saying[1]
+    if word == "not":
+        return "~" + rest[0]
+    if word == "shown":
+        return "[" + rest[0] + "]"
+    return "(" + rest[0] + {"and": "&", "or": "|", "if": ">"}[word] + rest[1] + ")"
+
+
+def wrapped(word, times, saying):
+    """not or shown said of a saying many times."""
+    for _ in range(times):
+        saying = (word, saying)
+    return saying
+
+
+def left_deep(word, joins, last=P):
+    saying = last
+    for _ in range(joins):
+        saying = (word, saying, Q)
+    return saying
+
+
+def right_deep(word, joins, last=P):
+    saying = last
+    for _ in range(joins):
+        saying = (word, Q, saying)
+    return saying
+
+
+def sayings_of_size_120():
+    """Deep ones; 59 joins have 119 parts."""
+    found = [wrapped("not", 119, P), wrapped("shown", 119, P)]
+    found.append(wrapped("not", 60, wrapped("shown", 59, NO)))
+    for word in JOINS:
+        found.append(("not", left_deep(word, 59)))
+        found.append(("shown", right_deep(word, 59)))
+    return found
