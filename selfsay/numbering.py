@@ -75,6 +75,34 @@ def numbered(saying):
     return numbering
 
 
+def mask_built(form, masks, full):
+    """The mask of a form of no, not, and, or, if, the masks of what it is built of being there.
+
+    A mask is a whole number with a bit for each place that is asked of (a room, a height), 1 where
+    the saying holds; in full all bits are 1.
+    """
+    word = form[0]
+    if word == "no":
+        return 0
+    if word == "not":
+        return full ^ masks[form[1]]
+    if word == "and":
+        return masks[form[1]] & masks[form[2]]
+    if word == "or":
+        return masks[form[1]] | masks[form[2]]
+    return (full ^ masks[form[1]]) | masks[form[2]]
+
+
+def full_mask(count):
+    """The mask of a saying that holds in each of the places."""
+    return (1 << count) - 1
+
+
+def truths_of(mask, count):
+    """A truth for each of the places of a mask."""
+    return [(mask >> place) & 1 == 1 for place in range(count)]
+
+
 def sorted_numbers(forms):
     """The numbers of the forms, in the order of their sayings.
 

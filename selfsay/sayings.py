@@ -15,8 +15,13 @@ def size_of(saying):
 
 def depth_of(saying):
     """The greatest number of shown parts that stand within one another."""
+    return depth_by_forms(numbered(saying).forms)
+
+
+def depth_by_forms(forms):
+    """The depth of the last form's saying."""
     depths = []
-    for form in numbered(saying).forms:
+    for form in forms:
         inner = max([depths[k] for k in inner_of(form)], default=0)
         depths.append(inner + 1 if form[0] == "shown" else inner)
     return depths[-1]
@@ -35,7 +40,12 @@ def shown_parts(saying):
 
 def letters_of(saying):
     """The sorted list of the letters, each once, as texts."""
-    return sorted([form[1] for form in numbered(saying).forms if form[0] == "letter"])
+    return letters_by_forms(numbered(saying).forms)
+
+
+def letters_by_forms(forms):
+    """The sorted list of the letters among the forms."""
+    return sorted([form[1] for form in forms if form[0] == "letter"])
 
 
 def put(saying, sayings):

@@ -1,10 +1,13 @@
 """Sayings to test with, and slow plain ways to find what the program tells of them."""
 
+import random
+
 NO = ("no",)
 P = ("letter", "p")
 Q = ("letter", "q")
 R = ("letter", "r")
 JOINS = ("and", "or", "if")
+MARKS = ("", "p", "q", "r", "pq", "pr", "qr", "pqr")
 
 
 def sayings_by_size(greatest):
@@ -85,3 +88,65 @@ def sayings_of_size_120():
         found.append(("not", left_deep(word, 59)))
         found.append(("shown", right_deep(word, 59)))
     return found
+
+
+def all_trees(count, marks=("",)):
+    """All trees of so many rooms, marked in all ways by these marks."""
+    lists = [[]]
+    for k in range(count):
+        lists = [rooms + [(below, each)] for rooms in lists for below in (range(k) if k else (-1,))
+                 for each in marks]
+    return lists
+
+
+def plain_above(rooms, room):
+    found = [k for k, (below, _) in enumerate(rooms) if below == room]
+    return sorted(found + [k for a in found for k in plain_above(rooms, a)])
+
+
+def plain_height(rooms, room):
+    return max([1 + plain_height(rooms, k) for k, (below, _) in enumerate(rooms) if below == room], default=0)
+
+
+def plain_worth(rooms, saying, room):
+    word = saying[0]
+    if word == "no":
+        return False
+    if word == "letter":
+        return saying[1] in rooms[room][1]
+    if word == "shown":
+        return all(plain_worth(rooms, saying[1], k) for k in plain_above(rooms, room))
+    first = plain_worth(rooms, saying[1], room)
+    if word == "not":
+        return not first
+    second = plain_worth(rooms, saying[2], room)
+    return {"and": first and second, "or": first or second, "if": not first or second}[word]
+
+
+def plain_row(saying):
+    """The row, found in the rooms of a chain that is high enough."""
+    depth = plain_depth(saying)
+    rooms = [(k - 1, "") for k in range(depth + 1)]
+    return [plain_worth(rooms, saying, depth - height) for height in range(depth + 1)]
+
+
+def some_sayings(seed, count, size, leaves=(NO, P, Q, R)):
+    """Sayings of one size, the same ones in each run."""
+    chance = random.Random(seed)
+
+    def made(parts):
+        if parts == 1:
+            return chance.choice(leaves)
+        if parts == 2 or chance.random() < 0.4:
+            return (chance.choice(("not", "shown")), made(parts - 1))
+        ahead = chance.randint(1, parts - 2)
+        return (chance.choice(JOINS), made(ahead), made(parts - 1 - ahead))
+
+    return [made(size) for _ in range(count)]
+
+
+def some_trees(seed, count, rooms):
+    """Trees of so many rooms, the same ones in each run."""
+    chance = random.Random(seed)
+    return [[(chance.randrange(k) if k else -1, chance.choice(MARKS)) for k in range(rooms)]
+            for _ in range(count)]

@@ -2,11 +2,28 @@
 
 import unittest
 
-from selfsay.errors import NoSaying
+from selfsay.claims import claim_of, claim_parts, claim_shown, needed
+from selfsay.errors import HasLetter, NoSaying
+from selfsay.rows import row_of, same_rows, saying_of_row
 from selfsay.sayings import depth_of, letters_of, parts_of, put, shown_parts, size_of
 from selfsay.texts import read, written
-from tests.samples import (JOINS, P, Q, R, all_parts, left_deep, plain_depth, right_deep,
+from selfsay.trees import Chain, Tree
+from tests.samples import (JOINS, NO, P, Q, R, all_parts, left_deep, plain_depth, right_deep,
                            sayings_of_size_120, wrapped)
+
+
+def grown(saying, times):
+    """The saying put for its own p again and again, twice as deep each time."""
+    for _ in range(times):
+        saying = put(saying, {"p": saying})
+    return saying
+
+
+def doubled(saying, times):
+    """The saying put for both letters of an and again and again, in twice as many places each time."""
+    for _ in range(times):
+        saying = put(("and", P, P), {"p": saying})
+    return saying
 
 
 class Size120(unittest.TestCase):
@@ -25,35 +42,29 @@ class Size120(unittest.TestCase):
 
 
 class Deep(unittest.TestCase):
-    def grown(self, saying, times):
-        """The saying put for its own p again and again, twice as deep each time."""
-        for _ in range(times):
-            saying = put(saying, {"p": saying})
-        return saying
-
     def test_not_and_shown(self):
-        deep = self.grown(wrapped("not", 119, P), 7)
+        deep = grown(wrapped("not", 119, P), 7)
         count = 119 * 128
         self.assertEqual(size_of(deep), count + 1)
         self.assertEqual(depth_of(deep), 0)
         self.assertEqual(letters_of(deep), ["p"])
         self.assertEqual(written(deep), "~" * count + "p")
         self.assertEqual(written(read(written(deep))), "~" * count + "p")
-        deep = self.grown(wrapped("shown", 119, P), 7)
+        deep = grown(wrapped("shown", 119, P), 7)
         self.assertEqual(depth_of(deep), count)
         self.assertEqual(written(put(deep, {"p": Q})), "[" * count + "q" + "]" * count)
 
     def test_parts_are_sorted(self):
-        deep = self.grown(wrapped("not", 119, P), 6)
+        deep = grown(wrapped("not", 119, P), 6)
         count = 119 * 64
         self.assertEqual([len(written(part)) for part in parts_of(deep)[:100]], list(range(1, 101)))
         self.assertEqual(len(parts_of(deep)), count + 1)
-        deep = self.grown(wrapped("shown", 119, P), 6)
+        deep = grown(wrapped("shown", 119, P), 6)
         self.assertEqual(len(shown_parts(deep)), count)
         self.assertEqual(written(shown_parts(deep)[0]), "[p]")
 
     def test_parts_between_others_are_sorted(self):
-        deep = self.grown(wrapped("not", 119, P), 4)
+        deep = grown(wrapped("not", 119, P), 4)
         for saying in (("and", ("shown", Q), deep), ("and", deep, ("shown", Q))):
             parts = parts_of(saying)
             self.assertEqual(len(parts), 119 * 16 + 4)
@@ -64,24 +75,24 @@ class Deep(unittest.TestCase):
 
     def test_joins_on_either_side(self):
         for word in JOINS:
-            deep = self.grown(left_deep(word, 59), 6)
+            deep = grown(left_deep(word, 59), 6)
             joins = 59 * 64
             self.assertEqual(size_of(deep), 2 * joins + 1)
             self.assertEqual(written(deep)[:joins + 2], "(" * joins + "p" + written((word, P, Q))[2])
             self.assertEqual(len(parts_of(deep)), joins + 2)
-            deep = self.grown(right_deep(word, 59), 6)
+            deep = grown(right_deep(word, 59), 6)
             self.assertEqual(size_of(deep), 2 * joins + 1)
             self.assertEqual(written(deep)[-joins - 1:], "p" + ")" * joins)
             self.assertEqual(len(parts_of(deep)), joins + 2)
 
     def test_two_deep_ones_side_by_side(self):
-        one = self.grown(wrapped("not", 119, P), 5)
+        one = grown(wrapped("not", 119, P), 5)
         other = put(one, {"p": Q})
         self.assertEqual(len(parts_of(("and", one, other))), 2 * size_of(one) + 1)
         self.assertEqual(len(parts_of(("and", one, ("not", one)))), size_of(one) + 2)
 
     def test_long_texts_are_refused_at_their_place(self):
-        text = written(self.grown(wrapped("shown", 119, P), 6))
+        text = written(grown(wrapped("shown", 119, P), 6))
         for wrong, place in ((text[:-1], len(text) - 1), (text + "]", len(text)), (text[:-1] + ")", len(text) - 1)):
             with self.assertRaises(NoSaying) as caught:
                 read(wrong)
@@ -119,6 +130,72 @@ class Wide(unittest.TestCase):
         self.assertEqual(len(parts_of(great)), 2 + 3 * 60)
         self.assertEqual(parts_of(great), sorted(parts_of(great)))
         self.assertEqual(parts_of(again), parts_of(great))
+
+
+class GreatInTrees(unittest.TestCase):
+    def test_deep(self):
+        deep = grown(wrapped("shown", 119, P), 7)
+        chain = Chain(["p", "", "pq", ""])
+        self.assertEqual(chain.holds(deep), [True] * 4)
+        self.assertEqual(chain.holds(("not", deep)), [False] * 4)
+        deep = grown(wrapped("not", 119, P), 7)
+        self.assertEqual(chain.holds(deep), [True, False, True, False])
+        self.assertEqual(chain.holds(("not", deep)), [False, True, False, True])
+        self.assertTrue(chain.worth(deep, 2))
+
+    def test_wide(self):
+        tree = Tree([(-1, "p")] + [((k - 1) // 2, "p" if k % 3 else "pq") for k in range(1, 200)])
+        self.assertEqual(tree.holds(doubled(P, 200)), [True] * 200)
+        self.assertEqual(tree.holds(doubled(Q, 200)), tree.holds(Q))
+        self.assertEqual(tree.worth(("shown", doubled(Q, 200)), 0), False)
+
+
+class GreatRows(unittest.TestCase):
+    def test_deep(self):
+        deep = put(grown(wrapped("shown", 119, P), 7), {"p": NO})
+        row = row_of(deep)
+        self.assertEqual(row, [True] * (119 * 128) + [False])
+        self.assertTrue(same_rows(row, row + [False] * 9))
+        self.assertEqual(row_of(saying_of_row(row)), row)
+        self.assertEqual(row_of(("not", deep)), [not truth for truth in row])
+
+    def test_wide(self):
+        self.assertEqual(row_of(doubled(("shown", NO), 200)), [True, False])
+        with self.assertRaises(HasLetter) as caught:
+            row_of(doubled(("or", R, ("shown", Q)), 200))
+        self.assertEqual(caught.exception.letter, "q")
+
+    def test_many_truths(self):
+        row = [k % 3 == 0 for k in range(300)]
+        saying = saying_of_row(row)
+        self.assertTrue(same_rows(row_of(saying), row))
+        self.assertTrue(same_rows(row_of(saying_of_row(row_of(saying))), row))
+
+
+class GreatClaims(unittest.TestCase):
+    def test_deep(self):
+        one, other = grown(wrapped("shown", 119, P), 5), grown(wrapped("not", 119, P), 5)
+        claim = claim_of([one, other, one, ("and", other, one)], [("shown", other), one])
+        self.assertEqual([saying[0] for saying in claim[0]], ["and", "not", "shown"])
+        self.assertEqual([written(saying)[:2] for saying in claim[1]], ["[~", "[["])
+        count = 119 * 32
+        self.assertEqual(len(claim_parts(claim)), 2 * count + 3)
+        self.assertEqual(len(claim_shown(claim)), count + 1)
+        self.assertEqual(needed(claim, "same", one), [])
+        told = needed(claim, "up", ("shown", other))
+        self.assertEqual([[len(written(saying)) for saying in side] for side in told[0]],
+                         [[count + 3, 2 * count - 1, 2 * count + 1], [count + 1]])
+
+    def test_wide(self):
+        one, other = doubled(P, 200), doubled(Q, 200)
+        claim = claim_of([one, other, P, one], [("not", one), ("shown", other), ("not", one)])
+        self.assertEqual([len(side) for side in claim], [3, 2])
+        self.assertEqual(len(claim_parts(claim)), 2 * 201 + 2)
+        told = needed(claim, "right", ("not", one))
+        self.assertEqual([len(side) for side in told[0]], [3, 1])
+        told = needed(claim, "left", one)
+        self.assertEqual([size_of(saying) for saying in told[0][0]], [2 ** 201 - 1, 2 ** 200 - 1, 1])
+        self.assertEqual(len(told[0][1]), 2)
 
 
 if __name__ == "__main__":

@@ -1,6 +1,7 @@
 """The package keeps to the small part of Python that it is written in (the rules that can be seen simply)."""
 
 import ast
+import builtins
 import pathlib
 import re
 import unittest
@@ -21,6 +22,14 @@ OWN_METHODS = set("""append clear copy count endswith extend find get index inse
 WORDS = set("""type typing typing_extensions enum Enum IntEnum StrEnum Flag IntFlag Generic Protocol ABC
     ABCMeta namedtuple NamedTuple TypedDict TYPE_CHECKING abstractmethod""".split())
 DOUBLE_UNDERSCORE = ("__init__", "__eq__", "__repr__", "__str__", "__len__")
+
+
+# Names that Python's own values bear, and those of its own functions: none is a parameter or a local.
+TAKEN = set(dir(builtins))
+CHANGING_VALUES = set("""items keys values pop update append clear extend insert remove reverse setdefault sort args
+    encode format""".split())
+WALKED = ("zip", "enumerate", "reversed", "range")
+WALKING = ("list", "tuple", "dict", "sorted", "sum", "any", "all", "enumerate", "zip", "min", "max")
 
 
 def files():
@@ -120,6 +129,56 @@ class Language(unittest.TestCase):
         for where, node in nodes(ast.Call):
             if isinstance(node.func, ast.Attribute):
                 self.assertIn(node.func.attr, OWN_METHODS | own, where)
+
+    def test_no_name_is_a_method_and_a_value(self):
+        methods = {node.name for _, cls in nodes(ast.ClassDef) for node in cls.body
+                   if isinstance(node, ast.FunctionDef)}
+        values = {node.attr for _, node in nodes(ast.Attribute) if isinstance(node.ctx, ast.Store)}
+        self.assertEqual(methods & values, set())
+        self.assertEqual(values & CHANGING_VALUES, set())
+
+    def test_locals_bear_no_name_of_pythons_own_or_of_an_import(self):
+        for path, tree in trees():
+            taken = TAKEN | {alias.name for node in ast.walk(tree) if isinstance(node, ast.ImportFrom)
+                             for alias in node.names}
+            taken |= {node.name for node in tree.body if isinstance(node, ast.ClassDef)}
+            for node in ast.walk(tree):
+                if isinstance(node, ast.arg):
+                    self.assertNotIn(node.arg, taken, f"{path.name}:{node.lineno}")
+                if isinstance(node, ast.Name) and isinstance(node.ctx, ast.Store):
+                    self.assertNotIn(node.id, taken, f"{path.name}:{node.lineno}")
+
+    def test_names_of_the_top_are_bound_once(self):
+        for path, tree in trees():
+            found = [node.name for node in tree.body if isinstance(node, (ast.FunctionDef, ast.ClassDef))]
+            found += [node.targets[0].id for node in tree.body if isinstance(node, ast.Assign)]
+            self.assertEqual(len(found), len(set(found)), path.name)
+
+    def test_walked_at_once(self):
+        for path, tree in trees():
+            calls = [node for node in ast.walk(tree) if isinstance(node, ast.Call)]
+            walked = [node.iter for node in ast.walk(tree) if isinstance(node, (ast.For, ast.comprehension))]
+            for node in calls:
+                if getattr(node.func, "id", "") in WALKING:
+                    walked += node.args
+            for node in calls:
+                name = getattr(node.func, "id", getattr(node.func, "attr", ""))
+                if name in WALKED + ("items", "keys", "values", "set"):
+                    self.assertTrue(any(node is other for other in walked), f"{path.name}:{node.lineno}")
+
+    def test_no_power_but_a_written_one(self):
+        for where, node in nodes(ast.BinOp):
+            if isinstance(node.op, ast.Pow):
+                self.assertIsInstance(node.right, ast.Constant, where)
+                self.assertLessEqual(node.right.value, 64, where)
+
+    def test_no_two_files_draw_from_one_another(self):
+        drawn = {path.stem: {node.module.split(".")[1] for node in ast.walk(tree) if isinstance(node, ast.ImportFrom)}
+                 for path, tree in trees()}
+        while drawn:
+            free = [name for name in drawn if not drawn[name] & set(drawn)]
+            self.assertTrue(free, drawn)
+            drawn = {name: drawn[name] for name in drawn if name not in free}
 
     def test_is_beside_none_and_truths_alone(self):
         for where, node in nodes(ast.Compare):
