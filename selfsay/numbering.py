@@ -4,22 +4,36 @@ What put has told may be thousands of parts deep, and may hold one part in more 
 walked. So no function here calls itself, and each unlike part is worked on once.
 """
 
-# Python compares tuples by recursion, as deep as the lower of the two: none higher than this is compared.
-LOW_HEIGHT = 400
+LEAVES = ("no", "letter")
 
-# Walking a smaller saying again costs less than looking for it among those that are kept.
-GREAT_SIZE = 1000
+# Walking a saying of this size again costs less than looking for it among those that were met.
+SMALL_SIZE = 250
+
+# Python compares tuples by recursion: higher ones are compared only where they are too great to be walked again.
+LOW_HEIGHT = 400
+GREAT_SIZE = 20000
+
+# So few steps below the whole saying nothing is compared: equal parts there may have been told separately,
+# and to compare these would take as long as to walk them.
+SHELL_STEPS = 4
+
+# So few steps below where a saying is walked anew a join may be unlike one that was met and begins as it does.
+DOUBTFUL_STEPS = 2
+
+# Ways down a saying, by which a high one is told from another: to the first place or the last, or in turn.
+WAYS = ((1, 1), (-1, -1), (1, -1), (-1, 1))
 
 
 def inner_of(saying):
     """The sayings that a saying is built of, as they stand; of a form their numbers."""
-    return [] if saying[0] in ("no", "letter") else list(saying[1:])
+    return [] if saying[0] in LEAVES else list(saying[1:])
 
 
 class Numbering:
     """Unlike sayings, numbered from 0 on, each behind the sayings that it is built of.
 
-    The form of a saying is the saying with numbers in the place of those that it is built of.
+    The form of a saying is the saying with numbers in the place of those that it is built of. Of like
+    sayings the one that was met last is kept, since that very one is the likeliest to come again.
     """
 
     def __init__(self):
@@ -28,44 +42,115 @@ class Numbering:
         self.numbers = {}
         self.sizes = []
         self.heights = []
-        self.kept = []
-        self.kept_numbers = []
+        self.joins = {}
+        self.came_again = []
 
     def number(self, saying):
-        """The number of a saying; it and its parts are numbered where they are not yet."""
-        pending = [(saying, False)]
-        found = []
-        while pending:
-            visit = pending.pop()
-            part = visit[0]
-            inner_done = visit[1]
-            if inner_done:
-                numbers = [found.pop() for inner in inner_of(part)]
-                found.append(self.number_built(part, numbers))
-            elif part in self.kept:
-                found.append(self.kept_numbers[self.kept.index(part)])
-            else:
-                pending.append((part, True))
-                pending.extend([(inner, False) for inner in inner_of(part)])
-        return found.pop()
+        """The number of a saying; it and its parts are numbered where they are not yet.
+
+        What waits for its inner sayings waits with the number of the first of them (-1 as long as there
+        is none) and with how many steps it is below where a saying is walked anew.
+        """
+        waiting = []
+        part = saying
+        steps = 0
+        while part is not None:
+            while part[0] not in LEAVES:
+                waiting.append((part, -1, steps))
+                part = part[1]
+                steps += 1
+            found = self.number_built(part, ())
+            part = None
+            while waiting and part is None:
+                outer = waiting.pop()
+                number = self.number_outer(outer, found, len(waiting))
+                if number >= 0:
+                    found = number
+                else:
+                    waiting.append((outer[0], found, outer[2]))
+                    part = outer[0][2]
+                    steps = 0 if self.sizes[found] > SMALL_SIZE else outer[2] + 1
+        return found
+
+    def number_outer(self, outer, found, depth):
+        """The number of what waited for the one found, -1 where its second saying has to be numbered."""
+        part = outer[0]
+        first = outer[1]
+        if first >= 0:
+            return self.number_built(part, (first, found))
+        if len(part) == 2:
+            return self.number_built(part, (found,))
+        if self.sizes[found] > SMALL_SIZE and depth >= SHELL_STEPS:
+            return self.number_met(part, found, outer[2] < DOUBTFUL_STEPS)
+        return -1
+
+    def number_met(self, join, first, doubtful):
+        """The number of a join whose first saying is numbered, where it was met; else -1."""
+        met = self.joins.get((join[0], first), [])
+        place = self.place_met(join[2], met, doubtful)
+        if place < 0:
+            return -1
+        number = met[place]
+        if place < len(met) - 1:
+            met.append(met.pop(place))
+        self.sayings[number] = join
+        self.came_again[number] = True
+        return number
+
+    def place_met(self, saying, met, doubtful):
+        """The place of the join, among those met, whose second saying is this one; else -1."""
+        for place in range(len(met) - 1, -1, -1):
+            second = self.forms[met[place]][2]
+            # Of joins that begin alike the one that came again last is the likeliest; the others are in doubt.
+            in_doubt = doubtful or place < len(met) - 1 or not self.came_again[met[place]]
+            # A list finds the very same saying at once, however great that is.
+            if self.may_be(saying, second, in_doubt) and saying in [self.sayings[second]]:
+                return place
+        return -1
+
+    def may_be(self, saying, number, doubtful):
+        """Whether a saying is to be compared with the numbered one."""
+        if self.heights[number] <= LOW_HEIGHT:
+            return self.sizes[number] > SMALL_SIZE
+        if self.sizes[number] <= GREAT_SIZE:
+            return False
+        return not doubtful or self.goes_along(saying, number)
+
+    def goes_along(self, saying, number):
+        """Whether a saying is like the numbered one along each of the ways."""
+        for way in WAYS:
+            if not self.goes_down(saying, number, way):
+                return False
+        return True
+
+    def goes_down(self, saying, number, way):
+        """Whether a saying is like the numbered one along a way, down to its end."""
+        form = self.forms[number]
+        word = form[0]
+        place = way[0]
+        while saying[0] == word and word not in LEAVES:
+            saying = saying[place]
+            form = self.forms[form[place]]
+            word = form[0]
+            place = way[0] + way[1] - place
+        return saying == form
 
     def number_built(self, saying, inner):
         """The number of a saying that is built of the sayings with the inner numbers."""
-        form = ((saying[0],) + tuple(inner)) if inner else saying
-        if form not in self.numbers:
-            self.numbers[form] = len(self.forms)
-            self.forms.append(form)
-            self.sayings.append(saying)
-            self.sizes.append(1 + sum([self.sizes[k] for k in inner]))
-            self.heights.append(max([self.heights[k] + 1 for k in inner], default=0))
-            self.keep_great(self.numbers[form])
-        return self.numbers[form]
-
-    def keep_great(self, number):
-        """Keep a saying that would be dear to walk again, where it may be compared."""
-        if self.sizes[number] >= GREAT_SIZE and self.heights[number] <= LOW_HEIGHT:
-            self.kept.append(self.sayings[number])
-            self.kept_numbers.append(number)
+        form = (saying[0],) + inner if inner else saying
+        if form in self.numbers:
+            self.sayings[self.numbers[form]] = saying
+            return self.numbers[form]
+        number = len(self.forms)
+        self.numbers[form] = number
+        self.forms.append(form)
+        self.sayings.append(saying)
+        self.came_again.append(False)
+        self.sizes.append(1 + sum([self.sizes[k] for k in inner]))
+        self.heights.append(max([self.heights[k] + 1 for k in inner], default=0))
+        if len(inner) == 2:
+            self.joins.setdefault((form[0], form[1]), []).append(number)
+        return number
 
 
 def numbered(saying):

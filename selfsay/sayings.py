@@ -50,10 +50,21 @@ def letters_by_forms(forms):
 
 def put(saying, sayings):
     """The saying with the sayings of the dict put for its letters, all at once."""
+    numbering = numbered(saying)
     results = []
-    for form in numbered(saying).forms:
-        results.append(rebuilt(form, results, sayings))
+    changed = []
+    for form, part in zip(numbering.forms, numbering.sayings):
+        changed.append(is_changed(form, changed, sayings))
+        # What stays the same stays the very saying: a great one is found again by that alone.
+        results.append(rebuilt(form, results, sayings) if changed[-1] else part)
     return results[-1]
+
+
+def is_changed(form, changed, sayings):
+    """Whether a form's saying is another one when the sayings are put."""
+    if form[0] == "letter":
+        return sayings.get(form[1], form) != form
+    return any([changed[k] for k in inner_of(form)])
 
 
 def rebuilt(form, results, sayings):

@@ -132,6 +132,106 @@ class Wide(unittest.TestCase):
         self.assertEqual(parts_of(again), parts_of(great))
 
 
+class High(unittest.TestCase):
+    """Sayings that are high and hold their parts in very many places."""
+
+    def test_one_part_put_for_both_letters(self):
+        for times in (400, 401, 415, 416, 700):
+            saying = doubled(P, times)
+            self.assertEqual(size_of(saying), 2 ** (times + 1) - 1)
+            self.assertEqual(depth_of(saying), 0)
+            self.assertEqual(letters_of(saying), ["p"])
+
+    def test_parts_and_put(self):
+        for times in (415, 500):
+            saying = doubled(P, times)
+            parts = parts_of(saying)
+            self.assertEqual(len(parts), times + 1)
+            self.assertEqual(parts[-1], P)
+            self.assertEqual(size_of(parts[0]), 2 ** (times + 1) - 1)
+            self.assertEqual(shown_parts(saying), [])
+            self.assertEqual(size_of(put(saying, {"p": ("not", Q)})), 2 ** (times + 1) - 1 + 2 ** times)
+            self.assertEqual(letters_of(put(saying, {"p": ("or", R, Q)})), ["q", "r"])
+            self.assertEqual(size_of(put(("if", Q, P), {"p": saying})), 2 ** (times + 1) + 1)
+
+    def test_still_higher(self):
+        self.assertEqual(size_of(doubled(P, 1500)), 2 ** 1501 - 1)
+
+    def test_other_shapes(self):
+        shapes = (("and", P, ("shown", P)), ("if", ("shown", P), P), ("or", ("not", P), P),
+                  ("and", ("or", Q, P), ("or", P, R)), ("and", Q, ("or", P, P)), ("and", P, ("or", P, P)),
+                  ("and", ("and", P, P), ("and", P, P)), ("or", ("or", P, P), P), ("if", P, ("if", P, P)),
+                  ("and", P, ("and", P, ("and", P, P))), ("or", ("and", P, Q), ("and", P, R)))
+        for shape in shapes:
+            parts = all_parts(shape)
+            places = parts.count(P)
+            new = len(set(part for part in parts if part[0] != "letter"))
+            other = len(set(part for part in parts if part[0] == "letter" and part != P))
+            saying, size = P, 1
+            for _ in range(250):
+                saying = put(shape, {"p": saying})
+                size = len(parts) - places + places * size
+            self.assertEqual(size_of(saying), size, shape)
+            self.assertEqual(depth_of(saying), 250 * plain_depth(shape), shape)
+            self.assertEqual(len(parts_of(saying)), 250 * new + other + 1, shape)
+
+    def test_put_for_its_own_letter(self):
+        saying = grown(("if", P, P), 9)
+        self.assertEqual(size_of(saying), 2 ** 513 - 1)
+        self.assertEqual(len(parts_of(saying)), 513)
+
+    def test_two_sayings_put_at_once(self):
+        for shape in (("and", P, Q), ("and", Q, P)):
+            one, other = P, ("not", P)
+            sizes = [1, 2]
+            for _ in range(700):
+                one, other = other, put(shape, {"p": other, "q": one})
+                sizes.append(1 + sizes[-1] + sizes[-2])
+            self.assertEqual(size_of(other), sizes[-1])
+            self.assertEqual(len(parts_of(other)), 702)
+
+    def test_joins_that_begin_alike(self):
+        one, other = P, Q
+        for _ in range(300):
+            one, other = put(("or", ("and", P, Q), ("and", P, P)), {"p": one, "q": other}), one
+        self.assertEqual(len(parts_of(one)), 3 * 300 + 2)
+        one, other = P, Q
+        for _ in range(1000):
+            one, other = put(("and", P, P), {"p": one}), put(("and", P, Q), {"p": one, "q": other})
+        self.assertEqual(size_of(("or", one, other)), 2 ** 1002 - 1)
+
+    def test_side_by_side(self):
+        for times in (450, 1000):
+            one = doubled(P, times)
+            other = put(one, {"p": Q})
+            saying = ("or", ("and", one, one), ("and", one, ("not", other)))
+            self.assertEqual(size_of(saying), 2 ** (times + 3))
+        one = doubled(P, 415)
+        self.assertEqual(len(parts_of(("and", ("not", one), one))), 418)
+
+    def test_built_separately(self):
+        made = [doubled(P, 415) for _ in range(4)]
+        self.assertEqual(size_of(("or", made[0], made[1])), 2 ** 417 - 1)
+        twice = ("or", ("and", made[0], made[1]), ("and", made[2], made[3]))
+        self.assertEqual(size_of(twice), 2 ** 418 - 1)
+        self.assertEqual(len(parts_of(twice)), 418)
+        self.assertEqual(size_of(put(("if", P, Q), {"p": made[0], "q": made[1]})), 2 ** 417 - 1)
+
+    def test_deep_ones_built_separately(self):
+        made = [grown(wrapped("not", 119, P), 5) for _ in range(4)]
+        twice = ("or", ("and", made[0], made[1]), ("and", made[2], made[3]))
+        for times in (0, 9):
+            self.assertEqual(len(parts_of(wrapped("shown", times, twice))), 119 * 32 + 3 + times)
+
+    def test_put_that_changes_nothing(self):
+        saying = doubled(P, 415)
+        same = [saying, put(saying, {}), put(saying, {"q": R}), put(saying, {"p": P})]
+        whole = P
+        for each in same * 3:
+            whole = ("or", ("and", each, saying), ("not", whole))
+        self.assertEqual(len(parts_of(whole)), 416 + 1 + 24)
+
+
 class GreatInTrees(unittest.TestCase):
     def test_deep(self):
         deep = grown(wrapped("shown", 119, P), 7)
@@ -148,6 +248,7 @@ class GreatInTrees(unittest.TestCase):
         self.assertEqual(tree.holds(doubled(P, 200)), [True] * 200)
         self.assertEqual(tree.holds(doubled(Q, 200)), tree.holds(Q))
         self.assertEqual(tree.worth(("shown", doubled(Q, 200)), 0), False)
+        self.assertEqual(tree.holds(doubled(("not", Q), 500)), tree.holds(("not", Q)))
 
 
 class GreatRows(unittest.TestCase):
@@ -160,7 +261,8 @@ class GreatRows(unittest.TestCase):
         self.assertEqual(row_of(("not", deep)), [not truth for truth in row])
 
     def test_wide(self):
-        self.assertEqual(row_of(doubled(("shown", NO), 200)), [True, False])
+        for times in (200, 500):
+            self.assertEqual(row_of(doubled(("shown", NO), times)), [True, False])
         with self.assertRaises(HasLetter) as caught:
             row_of(doubled(("or", R, ("shown", Q)), 200))
         self.assertEqual(caught.exception.letter, "q")
@@ -196,6 +298,15 @@ class GreatClaims(unittest.TestCase):
         told = needed(claim, "left", one)
         self.assertEqual([size_of(saying) for saying in told[0][0]], [2 ** 201 - 1, 2 ** 200 - 1, 1])
         self.assertEqual(len(told[0][1]), 2)
+
+    def test_high(self):
+        one, other = doubled(P, 500), doubled(P, 500)
+        claim = claim_of([one, other], [("shown", other), other])
+        self.assertEqual([len(side) for side in claim], [1, 2])
+        self.assertEqual(len(claim_parts(claim)), 502)
+        self.assertEqual(needed(claim, "same", doubled(P, 500)), [])
+        self.assertEqual([len(side) for side in needed(claim, "left", one)[0]], [1, 2])
+        self.assertEqual([len(side) for side in needed(claim, "up", ("shown", one))[0]], [1, 1])
 
 
 if __name__ == "__main__":
