@@ -1,9 +1,7 @@
 """Claims, that where all of some sayings hold one of some others holds, and what they need."""
 
 from selfsay.errors import NoRule
-from selfsay.numbering import Numbering, sorted_numbers
-
-OPENED = ("not", "and", "or", "if")
+from selfsay.numbering import Numbering, places_of, sorted_numbers
 
 
 def claim_of(left, right):
@@ -42,9 +40,7 @@ def numbers_of(sayings, numbering):
 def told_claims(pairs, numbering):
     """The claims whose sides have these numbers."""
     order = sorted_numbers(numbering.forms)
-    places = [0] * len(order)
-    for place, number in enumerate(order):
-        places[number] = place
+    places = places_of(order)
     ordered = [numbering.sayings[number] for number in order]
     return [(told_side(pair[0], places, ordered), told_side(pair[1], places, ordered)) for pair in pairs]
 
@@ -63,13 +59,18 @@ def needed_sides(left, right, rule, number, forms):
         return []
     if rule == "never" and at_left and word == "no":
         return []
-    if rule == "left" and at_left and word in OPENED:
+    if rule == "left" and at_left and may_open(forms[number]):
         return opened_left(forms[number], without(left, number), right)
-    if rule == "right" and at_right and word in OPENED:
+    if rule == "right" and at_right and may_open(forms[number]):
         return opened_right(forms[number], left, without(right, number))
     if rule == "up" and at_right and word == "shown":
         return [gone_up(left, number, forms)]
     raise NoRule()
+
+
+def may_open(form):
+    """Whether a form is of a word that left and right are for."""
+    return form[0] in ("not", "and", "or", "if")
 
 
 def without(numbers, taken):

@@ -207,6 +207,14 @@ def sorted_numbers(forms):
     return order
 
 
+def places_of(order):
+    """For each number its place in the order."""
+    places = [0] * len(order)
+    for place, number in enumerate(order):
+        places[number] = place
+    return places
+
+
 def ranked(form, ranks):
     """A tuple that compares as the form's saying does."""
     inner = inner_of(form)
@@ -246,7 +254,4 @@ def rank_at(spot, order, ranks):
 
 def spread(order):
     """New ranks for the numbers in order, with wide gaps again."""
-    ranks = [0] * len(order)
-    for place, number in enumerate(order):
-        ranks[number] = place * gap()
-    return ranks
+    return [place * gap() for place in places_of(order)]

@@ -2,6 +2,8 @@
 
 import random
 
+from selfsay.sayings import put
+
 NO = ("no",)
 P = ("letter", "p")
 Q = ("letter", "q")
@@ -63,6 +65,20 @@ def wrapped(word, times, saying):
     """not or shown said of a saying many times."""
     for _ in range(times):
         saying = (word, saying)
+    return saying
+
+
+def grown(saying, times):
+    """The saying put for its own p again and again, twice as deep each time."""
+    for _ in range(times):
+        saying = put(saying, {"p": saying})
+    return saying
+
+
+def doubled(saying, times):
+    """The saying put for both letters of an and again and again, in twice as many places each time."""
+    for _ in range(times):
+        saying = put(("and", P, P), {"p": saying})
     return saying
 
 
@@ -150,3 +166,14 @@ def some_trees(seed, count, rooms):
     chance = random.Random(seed)
     return [[(chance.randrange(k) if k else -1, chance.choice(MARKS)) for k in range(rooms)]
             for _ in range(count)]
+
+
+def spoil(told):
+    """Change all lists within what was told."""
+    for each in told:
+        if isinstance(each, (list, tuple)):
+            spoil(each)
+    if isinstance(told, list):
+        told.reverse()
+        told.append("spoilt")
+        told[0] = None

@@ -8,22 +8,8 @@ from selfsay.rows import row_of, same_rows, saying_of_row
 from selfsay.sayings import depth_of, letters_of, parts_of, put, shown_parts, size_of
 from selfsay.texts import read, written
 from selfsay.trees import Chain, Tree
-from tests.samples import (JOINS, NO, P, Q, R, all_parts, left_deep, plain_depth, right_deep,
+from tests.samples import (JOINS, NO, P, Q, R, all_parts, doubled, grown, left_deep, plain_depth, right_deep,
                            sayings_of_size_120, wrapped)
-
-
-def grown(saying, times):
-    """The saying put for its own p again and again, twice as deep each time."""
-    for _ in range(times):
-        saying = put(saying, {"p": saying})
-    return saying
-
-
-def doubled(saying, times):
-    """The saying put for both letters of an and again and again, in twice as many places each time."""
-    for _ in range(times):
-        saying = put(("and", P, P), {"p": saying})
-    return saying
 
 
 class Size120(unittest.TestCase):

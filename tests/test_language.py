@@ -21,13 +21,14 @@ OWN_METHODS = set("""append clear copy count endswith extend find get index inse
     bit_length""".split())
 WORDS = set("""type typing typing_extensions enum Enum IntEnum StrEnum Flag IntFlag Generic Protocol ABC
     ABCMeta namedtuple NamedTuple TypedDict TYPE_CHECKING abstractmethod""".split())
-DOUBLE_UNDERSCORE = ("__init__", "__eq__", "__repr__", "__str__", "__len__")
+DOUBLE_UNDERSCORE = {"__init__", "__eq__", "__repr__", "__str__", "__len__"}
 
 
 # Names that Python's own values bear, and those of its own functions: none is a parameter or a local.
 TAKEN = set(dir(builtins))
 CHANGING_VALUES = set("""items keys values pop update append clear extend insert remove reverse setdefault sort args
     encode format""".split())
+ALLOWED_VALUES = {"count", "index", "title", "find", "get", "join", "lower", "upper", "split", "strip", "copy", "add"}
 WALKED = ("zip", "enumerate", "reversed", "range")
 WALKING = ("list", "tuple", "dict", "sorted", "sum", "any", "all", "enumerate", "zip", "min", "max")
 
@@ -136,6 +137,9 @@ class Language(unittest.TestCase):
         values = {node.attr for _, node in nodes(ast.Attribute) if isinstance(node.ctx, ast.Store)}
         self.assertEqual(methods & values, set())
         self.assertEqual(values & CHANGING_VALUES, set())
+        taken = {name for own in (str, int, list, dict, set, bytes, tuple) for name in dir(own)}
+        self.assertEqual(values & taken - ALLOWED_VALUES, set())
+        self.assertEqual(methods & taken - OWN_METHODS - DOUBLE_UNDERSCORE - {"add", "discard"}, set())
 
     def test_locals_bear_no_name_of_pythons_own_or_of_an_import(self):
         for path, tree in trees():
