@@ -51,24 +51,28 @@ def letters_by_forms(forms):
 def put(saying, sayings):
     """The saying with the sayings of the dict put for its letters, all at once."""
     numbering = numbered(saying)
+    instead = {}
+    for number, form in enumerate(numbering.forms):
+        if form[0] == "letter" and form[1] in sayings:
+            instead[number] = sayings[form[1]]
+    return put_for_numbers(numbering, instead)[-1]
+
+
+def put_for_numbers(numbering, instead):
+    """The numbered sayings with those of the dict put for the numbers that it names."""
     results = []
     changed = []
-    for form, part in zip(numbering.forms, numbering.sayings):
-        changed.append(is_changed(form, changed, sayings))
-        # What stays the same stays the very saying: a great one is found again by that alone.
-        results.append(rebuilt(form, results, sayings) if changed[-1] else part)
-    return results[-1]
-
-
-def is_changed(form, changed, sayings):
-    """Whether a form's saying is another one when the sayings are put."""
-    if form[0] == "letter":
-        return sayings.get(form[1], form) != form
-    return any([changed[k] for k in inner_of(form)])
-
-
-def rebuilt(form, results, sayings):
-    """The result for a form, those for what it is built of being there."""
-    if form[0] == "letter":
-        return sayings.get(form[1], form)
-    return (form[0],) + tuple([results[k] for k in inner_of(form)])
+    for number, form in enumerate(numbering.forms):
+        inner = inner_of(form)
+        part = numbering.sayings[number]
+        if number in instead:
+            results.append(instead[number])
+            changed.append(instead[number] != part)
+        elif any([changed[k] for k in inner]):
+            results.append((form[0],) + tuple([results[k] for k in inner]))
+            changed.append(True)
+        else:
+            # What stays the same stays the very saying: a great one is found again by that alone.
+            results.append(part)
+            changed.append(False)
+    return results

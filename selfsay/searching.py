@@ -13,20 +13,22 @@ MOST_SHOWN = 6
 
 
 class Kinds:
-    """The kinds of rooms that there can be for the sayings of the forms.
+    """The kinds of rooms that there can be for the sayings of the forms, whose numbers in order are told.
 
     A kind is a whole number with a bit for each thing, the letters and then the shown sayings, the last
     thing's bit being the lowest. In a mask of kinds the bit of each kind's number is 1 or 0.
     """
 
-    def __init__(self, forms, letters, shown):
+    def __init__(self, forms, order, most_shown):
         self.forms = forms
-        self.letters = letters
-        self.shown = shown
-        self.masks = kind_masks(forms, letters + shown)
+        self.letters = [number for number in order if forms[number][0] == "letter"]
+        self.shown = [number for number in order if forms[number][0] == "shown"]
+        if len(self.shown) > most_shown:
+            raise TooMany()
+        self.masks = kind_masks(forms, self.letters + self.shown)
         self.possible = 0
         # What a kind needs further up has more shown sayings that hold, so it was found before.
-        for held in range((1 << len(shown)) - 1, -1, -1):
+        for held in range((1 << len(self.shown)) - 1, -1, -1):
             if all([self.failing(self.up_from(held, number)) for number in self.open_in(held)]):
                 self.possible |= sum([1 << kind for kind in self.like(held)])
 
@@ -102,11 +104,9 @@ def searched(claim):
     sides = (numbers_of(claim[0], numbering), numbers_of(claim[1], numbering))
     forms = numbering.forms
     order = sorted_numbers(forms)
-    letters = [number for number in order if forms[number][0] == "letter"]
-    shown = [number for number in order if forms[number][0] == "shown"]
-    if len(forms) > MOST_PARTS or len(shown) > MOST_SHOWN:
+    if len(forms) > MOST_PARTS:
         raise TooMany()
-    kinds = Kinds(forms, letters, shown)
+    kinds = Kinds(forms, order, MOST_SHOWN)
     failing = kinds.failing(sides)
     if failing:
         return ("tree", tree_rooms(kinds, kinds.best_of(failing, [])))

@@ -50,13 +50,20 @@ class Tree:
         if form[0] == "letter":
             return self.marked[form[1]]
         if form[0] == "shown":
-            return self.shown_mask(masks[form[1]])
+            return self.shown_mask(masks[form[1]], list(range(len(self.told))))
         return mask_built(form, masks, self.full)
 
-    def shown_mask(self, mask):
-        """The mask of the rooms that have none further up outside of the mask."""
+    def shown_mask(self, mask, rooms):
+        """The mask of those of the rooms that have none further up outside of the mask."""
         outside = self.full ^ mask
-        return sum([1 << k for k, upper in enumerate(self.uppers) if upper & outside == 0])
+        return sum([1 << room for room in rooms if self.uppers[room] & outside == 0])
+
+    def levels(self):
+        """For each height, from 0 on, the list of the rooms of it."""
+        found = [[] for height in range(max(self.tops) + 1)]
+        for room, height in enumerate(self.tops):
+            found[height].append(room)
+        return found
 
 
 class Chain(Tree):
