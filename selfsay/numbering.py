@@ -6,22 +6,16 @@ walked. So no function here calls itself, and each unlike part is worked on once
 
 LEAVES = ("no", "letter")
 
-# Walking a saying of this size again costs less than looking for it among those that were met.
-SMALL_SIZE = 250
+# Walking so small a saying again costs less than knowing it again.
+TINY_SIZE = 8
 
-# Python compares tuples by recursion: higher ones are compared only where they are too great to be walked again.
+# Python compares tuples by recursion: higher sayings are compared only where they seem to be the same.
 LOW_HEIGHT = 400
-GREAT_SIZE = 20000
 
-# So few steps below the whole saying nothing is compared: equal parts there may have been told separately,
-# and to compare these would take as long as to walk them.
-SHELL_STEPS = 4
-
-# So few steps below where a saying is walked anew a join may be unlike one that was met and begins as it does.
-DOUBTFUL_STEPS = 2
-
-# Ways down a saying, by which a high one is told from another: to the first place or the last, or in turn.
-WAYS = ((1, 1), (-1, -1), (1, -1), (-1, 1))
+# The asker may have joined sayings that were told apart, and to compare equal ones can take as long as to walk
+# them. So what stands at the other side of a join, none, one, two .. joins below what is handed in, is known
+# apart from what was met before, as long as the work of that was no more than this.
+APART = (10 ** 9, 6 * 10 ** 7, 2 * 10 ** 7, 5 * 10 ** 6, 5 * 10 ** 5, 10 ** 5, 2 * 10 ** 4)
 
 
 def inner_of(saying):
@@ -29,11 +23,20 @@ def inner_of(saying):
     return [] if saying[0] in LEAVES else list(saying[1:])
 
 
+def way_down(saying, place):
+    """How many steps it is down a saying, to the first place (1) or the last (-1) of each, and to which leaf."""
+    steps = 0
+    while saying[0] not in LEAVES:
+        saying = saying[place]
+        steps += 1
+    return (steps, saying)
+
+
 class Numbering:
     """Unlike sayings, numbered from 0 on, each behind the sayings that it is built of.
 
     The form of a saying is the saying with numbers in the place of those that it is built of. Of like
-    sayings the one that was met last is kept, since that very one is the likeliest to come again.
+    sayings the one that was met first is kept.
     """
 
     def __init__(self):
@@ -42,115 +45,133 @@ class Numbering:
         self.numbers = {}
         self.sizes = []
         self.heights = []
-        self.joins = {}
-        self.came_again = []
+        self.lasts = []
+        self.highest = []
+        self.strays = []
+        self.met = {}
+        self.looks = {}
+        self.came_again = {}
+        self.work = 0
+        self.begun = 0
 
     def number(self, saying):
         """The number of a saying; it and its parts are numbered where they are not yet.
 
         What waits for its inner sayings waits with the number of the first of them (-1 as long as there
-        is none) and with how many steps it is below where a saying is walked anew.
+        is none), its way down to the first place, and the number of joins above.
         """
+        self.begin_apart()
+        self.begun = self.work
         waiting = []
         part = saying
-        steps = 0
+        joins = 0
+        way = way_down(part, 1)
         while part is not None:
-            while part[0] not in LEAVES:
-                waiting.append((part, -1, steps))
+            found = self.number_known(part, way)
+            while found < 0:
+                waiting.append((part, -1, way, joins))
+                joins += len(part) - 2
                 part = part[1]
-                steps += 1
-            found = self.number_built(part, ())
+                way = (way[0] - 1, way[1])
+                found = self.number_known(part, way)
             part = None
             while waiting and part is None:
                 outer = waiting.pop()
-                number = self.number_outer(outer, found, len(waiting))
-                if number >= 0:
-                    found = number
-                else:
-                    waiting.append((outer[0], found, outer[2]))
+                if len(outer[0]) == 3 and outer[1] < 0:
+                    waiting.append((outer[0], found, outer[2], outer[3]))
                     part = outer[0][2]
-                    steps = 0 if self.sizes[found] > SMALL_SIZE else outer[2] + 1
+                    way = way_down(part, 1)
+                    joins = outer[3] + 1
+                    self.pass_over(way, outer[3])
+                else:
+                    found = self.number_outer(outer, found)
         return found
 
-    def number_outer(self, outer, found, depth):
-        """The number of what waited for the one found, -1 where its second saying has to be numbered."""
-        part = outer[0]
-        first = outer[1]
-        if first >= 0:
-            return self.number_built(part, (first, found))
-        if len(part) == 2:
-            return self.number_built(part, (found,))
-        if self.sizes[found] > SMALL_SIZE and depth >= SHELL_STEPS:
-            return self.number_met(part, found, outer[2] < DOUBTFUL_STEPS)
-        return -1
+    def begin_apart(self):
+        """From here on nothing is known again of what was met before."""
+        self.met = {}
+        self.looks = {}
 
-    def number_met(self, join, first, doubtful):
-        """The number of a join whose first saying is numbered, where it was met; else -1."""
-        met = self.joins.get((join[0], first), [])
-        place = self.place_met(join[2], met, doubtful)
-        if place < 0:
-            return -1
-        number = met[place]
-        if place < len(met) - 1:
-            met.append(met.pop(place))
-        self.sayings[number] = join
-        self.came_again[number] = True
+    def pass_over(self, way, joins):
+        """Go on with the other side of a join, so many joins below the whole; its way down is told."""
+        self.work += 20 + way[0]
+        if joins < len(APART) and self.work - self.begun <= APART[joins]:
+            self.begin_apart()
+
+    def number_outer(self, outer, found):
+        """The number of what waited for the last of its inner sayings, the one found."""
+        part = outer[0]
+        inner = (found,) if outer[1] < 0 else (outer[1], found)
+        number = self.number_form((part[0],) + inner, part)
+        self.work += 20
+        if self.sizes[number] > TINY_SIZE:
+            if number not in self.met:
+                self.looks.setdefault(look_of(part, outer[2]), []).append(number)
+            self.met[number] = part
         return number
 
-    def place_met(self, saying, met, doubtful):
-        """The place of the join, among those met, whose second saying is this one; else -1."""
-        for place in range(len(met) - 1, -1, -1):
-            second = self.forms[met[place]][2]
-            # Of joins that begin alike the one that came again last is the likeliest; the others are in doubt.
-            in_doubt = doubtful or place < len(met) - 1 or not self.came_again[met[place]]
+    def number_known(self, part, way):
+        """The number of a leaf, or of what was met; else -1."""
+        if part[0] in LEAVES:
+            return self.number_form(part, part)
+        found = self.looks.get(look_of(part, way), [])
+        last = way_down(part, -1) if found else None
+        for place in range(len(found) - 1, -1, -1):
+            number = found[place]
             # A list finds the very same saying at once, however great that is.
-            if self.may_be(saying, second, in_doubt) and saying in [self.sayings[second]]:
-                return place
+            if self.lasts[number] == last and self.may_be(part, number, way) and part in [self.met[number]]:
+                if place < len(found) - 1:
+                    found.append(found.pop(place))
+                self.met[number] = part
+                self.came_again[number] = True
+                self.work += 20 + last[0]
+                return number
         return -1
 
-    def may_be(self, saying, number, doubtful):
-        """Whether a saying is to be compared with the numbered one."""
-        if self.heights[number] <= LOW_HEIGHT:
-            return self.sizes[number] > SMALL_SIZE
-        if self.sizes[number] <= GREAT_SIZE:
+    def may_be(self, saying, number, way):
+        """Whether a saying is to be compared with the numbered one, the ways to first and last being alike."""
+        height = self.heights[number]
+        if height <= LOW_HEIGHT:
+            return True
+        if height not in (way[0], self.lasts[number][0]) and not self.goes_along(saying, number, self.highest):
             return False
-        return not doubtful or self.goes_along(saying, number)
+        return number in self.came_again or self.goes_along(saying, number, self.strays)
 
-    def goes_along(self, saying, number):
-        """Whether a saying is like the numbered one along each of the ways."""
-        for way in WAYS:
-            if not self.goes_down(saying, number, way):
+    def goes_along(self, saying, number, places):
+        """Whether a saying is like the numbered one along a way down to where this is low."""
+        self.work += self.heights[number]
+        while self.heights[number] > LOW_HEIGHT:
+            form = self.forms[number]
+            if saying[0] != form[0]:
                 return False
-        return True
-
-    def goes_down(self, saying, number, way):
-        """Whether a saying is like the numbered one along a way, down to its end."""
-        form = self.forms[number]
-        word = form[0]
-        place = way[0]
-        while saying[0] == word and word not in LEAVES:
+            place = places[number]
             saying = saying[place]
-            form = self.forms[form[place]]
-            word = form[0]
-            place = way[0] + way[1] - place
-        return saying == form
+            number = form[place]
+        return saying in [self.met.get(number, self.sayings[number])]
 
-    def number_built(self, saying, inner):
-        """The number of a saying that is built of the sayings with the inner numbers."""
-        form = (saying[0],) + inner if inner else saying
+    def number_form(self, form, saying):
+        """The number of a form, and of its saying where that comes for the first time."""
         if form in self.numbers:
-            self.sayings[self.numbers[form]] = saying
             return self.numbers[form]
         number = len(self.forms)
+        inner = inner_of(form)
+        heights = [self.heights[k] for k in inner]
         self.numbers[form] = number
         self.forms.append(form)
         self.sayings.append(saying)
-        self.came_again.append(False)
         self.sizes.append(1 + sum([self.sizes[k] for k in inner]))
-        self.heights.append(max([self.heights[k] + 1 for k in inner], default=0))
-        if len(inner) == 2:
-            self.joins.setdefault((form[0], form[1]), []).append(number)
+        self.heights.append(max(heights, default=-1) + 1)
+        self.lasts.append((self.lasts[inner[-1]][0] + 1, self.lasts[inner[-1]][1]) if inner else (0, form))
+        self.highest.append(2 if heights[1:] > heights[:1] else 1)
+        # Where both sides of a join are high, now the one is followed and now the other.
+        by_chance = len(inner) == 2 and min(heights) > LOW_HEIGHT
+        self.strays.append(1 + (number * 40503 >> 7) % 2 if by_chance else self.highest[number])
         return number
+
+
+def look_of(part, way):
+    """What sayings that are met again are looked for by."""
+    return (part[0], part[1][0], part[-1][0], way)
 
 
 def numbered(saying):

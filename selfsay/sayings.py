@@ -2,6 +2,8 @@
 
 from selfsay.numbering import inner_of, numbered, sorted_numbers
 
+SMALL_SIZE = 250
+
 
 def yes():
     """The saying that always holds."""
@@ -55,24 +57,41 @@ def put(saying, sayings):
     for number, form in enumerate(numbering.forms):
         if form[0] == "letter" and form[1] in sayings:
             instead[number] = sayings[form[1]]
-    return put_for_numbers(numbering, instead)[-1]
+    return put_for_numbers(numbering, len(numbering.forms) - 1, instead, False)
 
 
-def put_for_numbers(numbering, instead):
-    """The numbered sayings with those of the dict put for the numbers that it names."""
+def put_for_numbers(numbering, whole, instead, shown_stays):
+    """The saying numbered whole, with those of the dict put for the numbers that it names.
+
+    Where shown_stays, nothing is put within a shown saying that stays. What is not changed, and what is put
+    in, stays the very saying: a great one is known again by that alone.
+    """
     results = []
-    changed = []
-    for number, form in enumerate(numbering.forms):
-        inner = inner_of(form)
-        part = numbering.sayings[number]
+    for number, form in enumerate(numbering.forms[:whole + 1]):
+        inner = tuple([results[k] for k in inner_of(form)])
         if number in instead:
-            results.append(instead[number])
-            changed.append(instead[number] != part)
-        elif any([changed[k] for k in inner]):
-            results.append((form[0],) + tuple([results[k] for k in inner]))
-            changed.append(True)
+            results.append(number_put(numbering, number, instead[number]))
+        elif not inner or (shown_stays and form[0] == "shown"):
+            results.append(number)
         else:
-            # What stays the same stays the very saying: a great one is found again by that alone.
-            results.append(part)
-            changed.append(False)
-    return results
+            saying = (form[0],) + tuple([numbering.sayings[k] for k in inner])
+            results.append(numbering.number_form((form[0],) + inner, saying))
+    return numbering.sayings[results[whole]]
+
+
+def number_put(numbering, number, saying):
+    """A number for a saying that is put for the numbered one."""
+    if is_small(saying):
+        return numbering.number(saying)
+    # A great one is not looked into: it takes the place of a leaf, of a form that no saying has.
+    return numbering.number_form(("letter", number), saying)
+
+
+def is_small(saying):
+    """Whether a saying is so small that it is soon walked."""
+    waiting = [saying]
+    count = 0
+    while waiting and count < SMALL_SIZE:
+        waiting.extend(inner_of(waiting.pop()))
+        count += 1
+    return not waiting

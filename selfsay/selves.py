@@ -18,18 +18,14 @@ def outer_parts(saying):
 def put_outer(saying, others):
     """The saying with others, a list of pairs, put for its outer parts where they stand within no other one."""
     numbering = numbered(saying)
-    outer = outer_flags(numbering.forms)
     whole = len(numbering.forms) - 1
+    outer = outer_flags(numbering.forms)
     instead = {}
-    # A shown saying that is put for itself hides all that stands within it.
-    for number, form in enumerate(numbering.forms):
-        if form[0] == "shown":
-            instead[number] = numbering.sayings[number]
     for pair in others:
         number = numbering.number(pair[0])
         if number <= whole and outer[number]:
             instead[number] = pair[1]
-    return put_for_numbers(numbering, instead)[whole]
+    return put_for_numbers(numbering, whole, instead, True)
 
 
 def outer_flags(forms):
