@@ -51,17 +51,16 @@ class Numbering:
         self.met = {}
         self.looks = {}
         self.came_again = {}
+        self.home = 0
         self.work = 0
-        self.begun = 0
 
     def number(self, saying):
         """The number of a saying; it and its parts are numbered where they are not yet.
 
         What waits for its inner sayings waits with the number of the first of them (-1 as long as there
-        is none), its way down to the first place, and the number of joins above.
+        is none), its way down to the first place, the number of joins above, and the home it began in.
         """
         self.begin_apart()
-        self.begun = self.work
         waiting = []
         part = saying
         joins = 0
@@ -69,7 +68,7 @@ class Numbering:
         while part is not None:
             found = self.number_known(part, way)
             while found < 0:
-                waiting.append((part, -1, way, joins))
+                waiting.append((part, -1, way, joins, self.home))
                 joins += len(part) - 2
                 part = part[1]
                 way = (way[0] - 1, way[1])
@@ -78,7 +77,7 @@ class Numbering:
             while waiting and part is None:
                 outer = waiting.pop()
                 if len(outer[0]) == 3 and outer[1] < 0:
-                    waiting.append((outer[0], found, outer[2], outer[3]))
+                    waiting.append((outer[0], found, outer[2], outer[3], outer[4]))
                     part = outer[0][2]
                     way = way_down(part, 1)
                     joins = outer[3] + 1
@@ -89,13 +88,14 @@ class Numbering:
 
     def begin_apart(self):
         """From here on nothing is known again of what was met before."""
+        self.home += 1
         self.met = {}
         self.looks = {}
 
     def pass_over(self, way, joins):
         """Go on with the other side of a join, so many joins below the whole; its way down is told."""
         self.work += 20 + way[0]
-        if joins < len(APART) and self.work - self.begun <= APART[joins]:
+        if joins < len(APART) and self.work <= APART[joins]:
             self.begin_apart()
 
     def number_outer(self, outer, found):
@@ -104,7 +104,7 @@ class Numbering:
         inner = (found,) if outer[1] < 0 else (outer[1], found)
         number = self.number_form((part[0],) + inner, part)
         self.work += 20
-        if self.sizes[number] > TINY_SIZE:
+        if self.sizes[number] > TINY_SIZE and outer[4] == self.home:
             if number not in self.met:
                 self.looks.setdefault(look_of(part, outer[2]), []).append(number)
             self.met[number] = part
@@ -147,7 +147,7 @@ class Numbering:
             place = places[number]
             saying = saying[place]
             number = form[place]
-        return saying in [self.met.get(number, self.sayings[number])]
+        return number not in self.met or saying in [self.met[number]]
 
     def number_form(self, form, saying):
         """The number of a form, and of its saying where that comes for the first time."""
