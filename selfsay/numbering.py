@@ -55,7 +55,11 @@ class Numbering:
         self.work = 0
 
     def number(self, saying):
-        """The number of a saying; it and its parts are numbered where they are not yet.
+        """The number of a saying; it and its parts are numbered where they are not yet."""
+        return self.number_within(saying, len(APART), self.work + 10 ** 60)
+
+    def number_within(self, saying, apart_joins, most_work):
+        """The number of a saying, or -1 where the work would come to more.
 
         What waits for its inner sayings waits with the number of the first of them (-1 as long as there
         is none), its way down to the first place, the number of joins above, and the home it began in.
@@ -74,29 +78,25 @@ class Numbering:
                 way = (way[0] - 1, way[1])
                 found = self.number_known(part, way)
             part = None
-            while waiting and part is None:
+            while waiting and part is None and self.work <= most_work:
                 outer = waiting.pop()
                 if len(outer[0]) == 3 and outer[1] < 0:
                     waiting.append((outer[0], found, outer[2], outer[3], outer[4]))
                     part = outer[0][2]
                     way = way_down(part, 1)
                     joins = outer[3] + 1
-                    self.pass_over(way, outer[3])
+                    self.work += 20 + way[0]
+                    if outer[3] < apart_joins and self.work <= APART[outer[3]]:
+                        self.begin_apart()
                 else:
                     found = self.number_outer(outer, found)
-        return found
+        return -1 if waiting else found
 
     def begin_apart(self):
         """From here on nothing is known again of what was met before."""
         self.home += 1
         self.met = {}
         self.looks = {}
-
-    def pass_over(self, way, joins):
-        """Go on with the other side of a join, so many joins below the whole; its way down is told."""
-        self.work += 20 + way[0]
-        if joins < len(APART) and self.work <= APART[joins]:
-            self.begin_apart()
 
     def number_outer(self, outer, found):
         """The number of what waited for the last of its inner sayings, the one found."""
@@ -115,17 +115,25 @@ class Numbering:
         if part[0] in LEAVES:
             return self.number_form(part, part)
         found = self.looks.get(look_of(part, way), [])
-        last = way_down(part, -1) if found else None
+        place = self.place_known(part, way, found) if found else -1
+        if place < 0:
+            return -1
+        number = found[place]
+        if place < len(found) - 1:
+            found.append(found.pop(place))
+        self.met[number] = part
+        self.came_again[number] = True
+        return number
+
+    def place_known(self, part, way, found):
+        """The place of a saying's number among those found by its look, the last one being the likeliest; else -1."""
+        last = way_down(part, -1)
+        self.work += 20 + last[0]
         for place in range(len(found) - 1, -1, -1):
             number = found[place]
             # A list finds the very same saying at once, however great that is.
             if self.lasts[number] == last and self.may_be(part, number, way) and part in [self.met[number]]:
-                if place < len(found) - 1:
-                    found.append(found.pop(place))
-                self.met[number] = part
-                self.came_again[number] = True
-                self.work += 20 + last[0]
-                return number
+                return place
         return -1
 
     def may_be(self, saying, number, way):
@@ -140,8 +148,10 @@ class Numbering:
     def goes_along(self, saying, number, places):
         """Whether a saying is like the numbered one along a way down to where this is low."""
         self.work += self.heights[number]
-        while self.heights[number] > LOW_HEIGHT:
-            form = self.forms[number]
+        heights = self.heights
+        forms = self.forms
+        while heights[number] > LOW_HEIGHT:
+            form = forms[number]
             if saying[0] != form[0]:
                 return False
             place = places[number]

@@ -1,8 +1,11 @@
 """What sayings are built of, and putting sayings for letters."""
 
-from selfsay.numbering import inner_of, numbered, sorted_numbers
+from selfsay.numbering import Numbering, inner_of, numbered, sorted_numbers
 
 SMALL_SIZE = 250
+
+# More work is not done to find out whether one of the sayings that are put in is a part of another.
+MOST_WORK = 200000
 
 
 def yes():
@@ -66,11 +69,12 @@ def put_for_numbers(numbering, whole, instead, shown_stays):
     Where shown_stays, nothing is put within a shown saying that stays. What is not changed, and what is put
     in, stays the very saying: a great one is known again by that alone.
     """
+    one_for_like = with_shared_parts(instead)
     results = []
     for number, form in enumerate(numbering.forms[:whole + 1]):
         inner = tuple([results[k] for k in inner_of(form)])
         if number in instead:
-            results.append(number_put(numbering, number, instead[number]))
+            results.append(number_put(numbering, number, one_for_like[number]))
         elif not inner or (shown_stays and form[0] == "shown"):
             results.append(number)
         else:
@@ -85,6 +89,45 @@ def number_put(numbering, number, saying):
         return numbering.number(saying)
     # A great one is not looked into: it takes the place of a leaf, of a form that no saying has.
     return numbering.number_form(("letter", number), saying)
+
+
+def with_shared_parts(instead):
+    """The dict with those great sayings that are parts of another one of it taken out of that.
+
+    Else a saying could come to hold great parts that were told apart from one another, and are alike.
+    """
+    great = [number for number in instead if not is_small(instead[number])]
+    shared = dict(instead)
+    if len(great) < 2:
+        return shared
+    numbering = Numbering()
+    wholes = {}
+    for number in great:
+        wholes[number] = numbering.number_within(instead[number], 2, MOST_WORK)
+        if wholes[number] < 0:
+            return shared
+    order = sorted(great, key=lambda each: 0 - numbering.sizes[wholes[each]])
+    for place, number in enumerate(order):
+        for greater in order[:place]:
+            part = part_found(shared[greater], numbering.forms, wholes[greater], wholes[number])
+            shared[number] = shared[number] if part is None else part
+    return shared
+
+
+def part_found(saying, forms, whole, wanted):
+    """The part numbered wanted, taken out of the saying numbered whole; None where it has no such part."""
+    holding = []
+    for number, form in enumerate(forms[:whole + 1]):
+        holding.append(number == wanted or any([holding[k] for k in inner_of(form)]))
+    if not holding[whole]:
+        return None
+    number = whole
+    while number != wanted:
+        form = forms[number]
+        place = 1 if holding[form[1]] else 2
+        saying = saying[place]
+        number = form[place]
+    return saying
 
 
 def is_small(saying):
