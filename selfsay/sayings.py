@@ -1,11 +1,12 @@
 """What sayings are built of, and putting sayings for letters."""
 
-from selfsay.numbering import Numbering, inner_of, numbered, sorted_numbers
+from selfsay.numbering import Numbering, inner_of, numbered, sorted_numbers, way_down
 
 SMALL_SIZE = 250
 
 # More work is not done to find out whether one of the sayings that are put in is a part of another.
 MOST_WORK = 200000
+MOST_STEPS = 200
 
 
 def yes():
@@ -98,7 +99,7 @@ def with_shared_parts(instead):
     """
     great = [number for number in instead if not is_small(instead[number])]
     shared = dict(instead)
-    if len(great) < 2:
+    if len(great) < 2 or any([is_high(instead[number]) for number in great]):
         return shared
     numbering = Numbering()
     wholes = {}
@@ -128,6 +129,11 @@ def part_found(saying, forms, whole, wanted):
         saying = saying[place]
         number = form[place]
     return saying
+
+
+def is_high(saying):
+    """Whether it is so far down a saying that the work with it would be too much."""
+    return max(way_down(saying, 1)[0], way_down(saying, -1)[0]) > MOST_STEPS
 
 
 def is_small(saying):

@@ -182,12 +182,12 @@ class Looking(unittest.TestCase):
 
     def test_long_chains_of_uses(self):
         saying, steps = P, list(SAME)
-        for number in range(300):
+        for number in range(200):
             word, uses = (("and", [number]), ("or", [number, number]))[number % 2]
             saying = put((word, P, P), {"p": saying})
             steps.append(([saying], [P], "left", saying, uses))
         self.assertIs(shows(steps, ([saying], [P])), True)
-        steps[201] = steps[201][:4] + ([199, 199],)
+        steps[151] = steps[151][:4] + ([149, 149],)
         self.assertIs(shows(steps, ([saying], [P])), False)
 
     def test_great_sayings(self):
