@@ -32,6 +32,11 @@ def way_down(saying, place):
     return (steps, saying)
 
 
+def one_step_more(way):
+    """The way of a saying, that of the inner one which it goes to being told."""
+    return (way[0] + 1, way[1])
+
+
 class Numbering:
     """Unlike sayings, numbered from 0 on, each behind the sayings that it is built of.
 
@@ -45,6 +50,7 @@ class Numbering:
         self.numbers = {}
         self.sizes = []
         self.heights = []
+        self.firsts = []
         self.lasts = []
         self.highest = []
         self.strays = []
@@ -128,13 +134,21 @@ class Numbering:
     def place_known(self, part, way, found):
         """The place of a saying's number among those found by its look, the last one being the likeliest; else -1."""
         last = way_down(part, -1)
+        # Where there are several, the ways from the one side down to the other tell most of them apart.
+        turns = (way_down(part[-1], 1), way_down(part[1], -1)) if len(found) > 1 else None
         self.work += 20 + last[0]
         for place in range(len(found) - 1, -1, -1):
             number = found[place]
+            fits = self.lasts[number] == last and (turns is None or turns == self.turns_of(number))
             # A list finds the very same saying at once, however great that is.
-            if self.lasts[number] == last and self.may_be(part, number, way) and part in [self.met[number]]:
+            if fits and self.may_be(part, number, way) and part in [self.met[number]]:
                 return place
         return -1
+
+    def turns_of(self, number):
+        """The ways of the numbered saying that go to the last place and then to the first, and the other way round."""
+        form = self.forms[number]
+        return (self.firsts[form[-1]], self.lasts[form[1]])
 
     def may_be(self, saying, number, way):
         """Whether a saying is to be compared with the numbered one, the ways to first and last being alike."""
@@ -171,7 +185,8 @@ class Numbering:
         self.sayings.append(saying)
         self.sizes.append(1 + sum([self.sizes[k] for k in inner]))
         self.heights.append(max(heights, default=-1) + 1)
-        self.lasts.append((self.lasts[inner[-1]][0] + 1, self.lasts[inner[-1]][1]) if inner else (0, form))
+        self.firsts.append(one_step_more(self.firsts[inner[0]]) if inner else (0, form))
+        self.lasts.append(one_step_more(self.lasts[inner[-1]]) if inner else (0, form))
         self.highest.append(2 if heights[1:] > heights[:1] else 1)
         # Where both sides of a join are high, now the one is followed and now the other.
         by_chance = len(inner) == 2 and min(heights) > LOW_HEIGHT
